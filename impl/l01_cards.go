@@ -1,6 +1,7 @@
 package impl
 
 import (
+	"math"
 	"math/bits"
 	"strconv"
 	"strings"
@@ -204,8 +205,10 @@ func isHole(hole int64) bool { return hole >= 0 && hole < Holes }
 // oneHole returns the mask of a hole that is there.
 func oneHole(hole int64) Mask { return moveUp(Mask{1}, hole) }
 
-// firstHoles returns the mask of the first n holes; n is less than wordHoles.
-func firstHoles(n int64) Mask { return Mask{1<<n - 1} }
+// firstHoles returns the mask of the first n holes.
+func firstHoles(n int64) Mask {
+	return moveDown(Mask{math.MaxUint64, math.MaxUint64}, 2*wordHoles-n)
+}
 
 // moveUp returns a mask with the number of each hole greater by some holes, at least none.
 func moveUp(m Mask, by int64) Mask {
@@ -224,12 +227,15 @@ func moveDown(m Mask, by int64) Mask {
 }
 
 // isName reports whether a text is a name of a card or of a field.
-func isName(name string) bool {
-	if len(name) < 1 || len(name) > MaxName {
+func isName(name string) bool { return areLetters(name, MaxName) }
+
+// areLetters reports whether a text is 1 to most letters from a to z.
+func areLetters(text string, most int) bool {
+	if len(text) < 1 || len(text) > most {
 		return false
 	}
-	for i := range len(name) {
-		if name[i] < 'a' || name[i] > 'z' {
+	for i := range len(text) {
+		if text[i] < 'a' || text[i] > 'z' {
 			return false
 		}
 	}

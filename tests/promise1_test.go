@@ -131,10 +131,16 @@ func codesOf(name string) []int64 {
 		return []int64{impl.OK, impl.ErrInvalid, impl.ErrNotFound, impl.ErrProof}
 	case "ValuesOf":
 		return []int64{impl.OK, impl.ErrInvalid, impl.ErrProof}
-	case "ReadCard", "ReadScheme", "ReadDeck":
+	case "ReadCard", "ReadScheme", "ReadDeck", "ReadMix":
 		return []int64{impl.OK, impl.ErrSyntax}
 	case "PassNeedle", "SplitDeck", "QueryFor":
 		return []int64{impl.OK, impl.ErrInvalid, impl.ErrRange}
+	case "WordHoles", "AddWords", "MixLot", "Drops", "DroppedOf", "FalseOf", "CountFalse", "BestPer", "NeedlesFor", "AlikeWords", "MaybeWords":
+		return []int64{impl.OK, impl.ErrInvalid, impl.ErrRange}
+	case "WordCheck", "TrueOf":
+		return []int64{impl.OK, impl.ErrRange}
+	case "ExplainMask":
+		return []int64{impl.OK, impl.ErrInvalid, impl.ErrRange, impl.ErrNotFound, impl.ErrBudget}
 	case "PassMany":
 		return []int64{impl.OK, impl.ErrInvalid, impl.ErrRange, impl.ErrLimit}
 	case "FindCard":
@@ -143,7 +149,7 @@ func codesOf(name string) []int64 {
 		return []int64{impl.OK, impl.ErrInvalid, impl.ErrState, impl.ErrLimit, impl.ErrProof}
 	case "FirstFrom", "BothQueries":
 		return []int64{impl.OK, impl.ErrInvalid, impl.ErrState}
-	case "FewestNeedles":
+	case "FewestNeedles", "SureWords", "FullestOf":
 		return []int64{impl.OK, impl.ErrInvalid, impl.ErrRange, impl.ErrNotFound}
 	}
 	return []int64{impl.OK, impl.ErrInvalid}
@@ -157,7 +163,7 @@ func isZero(x any) bool {
 
 // Every function returns, with a code that it may have, with zero values beside an error, and twice the same.
 func TestPromise1FunctionsReturn(t *testing.T) {
-	for _, calls := range [][]call{callsOfMasks(), callsOfFields(), callsOfSchemes(), callsOfDecks(), callsOfSorting(), callsOfQueries()} {
+	for _, calls := range [][]call{callsOfMasks(), callsOfFields(), callsOfSchemes(), callsOfDecks(), callsOfSorting(), callsOfQueries(), callsOfMixes(), callsOfLots()} {
 		for _, c := range calls {
 			first, second := c.run(), c.run()
 			if !reflect.DeepEqual(first, second) {
