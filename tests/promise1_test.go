@@ -131,9 +131,9 @@ func codesOf(name string) []int64 {
 		return []int64{impl.OK, impl.ErrInvalid, impl.ErrNotFound, impl.ErrProof}
 	case "ValuesOf":
 		return []int64{impl.OK, impl.ErrInvalid, impl.ErrProof}
-	case "ReadCard", "ReadScheme", "ReadDeck", "ReadMix":
+	case "ReadCard", "ReadScheme", "ReadDeck", "ReadMix", "ReadWear":
 		return []int64{impl.OK, impl.ErrSyntax}
-	case "PassNeedle", "SplitDeck", "QueryFor":
+	case "PassNeedle", "SplitDeck", "QueryFor", "ChanceWear", "IsTold", "ValuesNear", "DoubtsOf", "VotesFor", "RepairCard":
 		return []int64{impl.OK, impl.ErrInvalid, impl.ErrRange}
 	case "WordHoles", "AddWords", "MixLot", "Drops", "DroppedOf", "FalseOf", "CountFalse", "BestPer", "NeedlesFor", "AlikeWords", "MaybeWords":
 		return []int64{impl.OK, impl.ErrInvalid, impl.ErrRange}
@@ -147,10 +147,12 @@ func codesOf(name string) []int64 {
 		return []int64{impl.OK, impl.ErrInvalid, impl.ErrNotFound}
 	case "MergeDecks":
 		return []int64{impl.OK, impl.ErrInvalid, impl.ErrState, impl.ErrLimit, impl.ErrProof}
-	case "FirstFrom", "BothQueries":
+	case "FirstFrom", "BothQueries", "NearestValue":
 		return []int64{impl.OK, impl.ErrInvalid, impl.ErrState}
-	case "FewestNeedles", "SureWords", "FullestOf":
+	case "FewestNeedles", "SureWords", "FullestOf", "MajorityOf", "LonelyHoles":
 		return []int64{impl.OK, impl.ErrInvalid, impl.ErrRange, impl.ErrNotFound}
+	case "RepairField":
+		return []int64{impl.OK, impl.ErrInvalid, impl.ErrRange, impl.ErrState}
 	}
 	return []int64{impl.OK, impl.ErrInvalid}
 }
@@ -163,7 +165,7 @@ func isZero(x any) bool {
 
 // Every function returns, with a code that it may have, with zero values beside an error, and twice the same.
 func TestPromise1FunctionsReturn(t *testing.T) {
-	for _, calls := range [][]call{callsOfMasks(), callsOfFields(), callsOfSchemes(), callsOfDecks(), callsOfSorting(), callsOfQueries(), callsOfMixes(), callsOfLots()} {
+	for _, calls := range [][]call{callsOfMasks(), callsOfFields(), callsOfSchemes(), callsOfDecks(), callsOfSorting(), callsOfQueries(), callsOfMixes(), callsOfLots(), callsOfWear()} {
 		for _, c := range calls {
 			first, second := c.run(), c.run()
 			if !reflect.DeepEqual(first, second) {
