@@ -131,9 +131,9 @@ func codesOf(name string) []int64 {
 		return []int64{impl.OK, impl.ErrInvalid, impl.ErrNotFound, impl.ErrProof}
 	case "ValuesOf":
 		return []int64{impl.OK, impl.ErrInvalid, impl.ErrProof}
-	case "ReadCard", "ReadScheme", "ReadDeck", "ReadMix", "ReadWear":
+	case "ReadCard", "ReadScheme", "ReadDeck", "ReadMix", "ReadWear", "ReadCatalogue":
 		return []int64{impl.OK, impl.ErrSyntax}
-	case "PassNeedle", "SplitDeck", "QueryFor", "ChanceWear", "IsTold", "ValuesNear", "DoubtsOf", "VotesFor", "RepairCard":
+	case "PassNeedle", "SplitDeck", "QueryFor", "ChanceWear", "IsTold", "ValuesNear", "DoubtsOf", "VotesFor", "RepairCard", "PreferredOf", "PathUp", "NarrowerOf", "SynonymsOf", "ExpandEntry":
 		return []int64{impl.OK, impl.ErrInvalid, impl.ErrRange}
 	case "WordHoles", "AddWords", "MixLot", "Drops", "DroppedOf", "FalseOf", "CountFalse", "BestPer", "NeedlesFor", "AlikeWords", "MaybeWords":
 		return []int64{impl.OK, impl.ErrInvalid, impl.ErrRange}
@@ -143,16 +143,24 @@ func codesOf(name string) []int64 {
 		return []int64{impl.OK, impl.ErrInvalid, impl.ErrRange, impl.ErrNotFound, impl.ErrBudget}
 	case "PassMany":
 		return []int64{impl.OK, impl.ErrInvalid, impl.ErrRange, impl.ErrLimit}
-	case "FindCard":
+	case "FindCard", "FindEntry":
 		return []int64{impl.OK, impl.ErrInvalid, impl.ErrNotFound}
 	case "MergeDecks":
 		return []int64{impl.OK, impl.ErrInvalid, impl.ErrState, impl.ErrLimit, impl.ErrProof}
 	case "FirstFrom", "BothQueries", "NearestValue":
 		return []int64{impl.OK, impl.ErrInvalid, impl.ErrState}
-	case "FewestNeedles", "SureWords", "FullestOf", "MajorityOf", "LonelyHoles":
+	case "FewestNeedles", "SureWords", "FullestOf", "MajorityOf", "LonelyHoles", "CommonBroader":
 		return []int64{impl.OK, impl.ErrInvalid, impl.ErrRange, impl.ErrNotFound}
-	case "RepairField":
+	case "RepairField", "PutBelow", "MergeEntries":
 		return []int64{impl.OK, impl.ErrInvalid, impl.ErrRange, impl.ErrState}
+	case "AddEntry":
+		return []int64{impl.OK, impl.ErrInvalid, impl.ErrLimit, impl.ErrState}
+	case "FileOrder":
+		return []int64{impl.OK, impl.ErrInvalid, impl.ErrLimit}
+	case "GuidesFor":
+		return []int64{impl.OK, impl.ErrInvalid, impl.ErrLimit, impl.ErrRange}
+	case "DrawerOf":
+		return []int64{impl.OK, impl.ErrInvalid, impl.ErrLimit, impl.ErrRange, impl.ErrNotFound}
 	}
 	return []int64{impl.OK, impl.ErrInvalid}
 }
@@ -165,7 +173,7 @@ func isZero(x any) bool {
 
 // Every function returns, with a code that it may have, with zero values beside an error, and twice the same.
 func TestPromise1FunctionsReturn(t *testing.T) {
-	for _, calls := range [][]call{callsOfMasks(), callsOfFields(), callsOfSchemes(), callsOfDecks(), callsOfSorting(), callsOfQueries(), callsOfMixes(), callsOfLots(), callsOfWear()} {
+	for _, calls := range [][]call{callsOfMasks(), callsOfFields(), callsOfSchemes(), callsOfDecks(), callsOfSorting(), callsOfQueries(), callsOfMixes(), callsOfLots(), callsOfWear(), callsOfCatalogues(), callsOfFiling()} {
 		for _, c := range calls {
 			first, second := c.run(), c.run()
 			if !reflect.DeepEqual(first, second) {

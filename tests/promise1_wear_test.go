@@ -124,17 +124,27 @@ func TestPromise1ResultsOfChapter4AreNew(t *testing.T) {
 // Calls beside each other have the results that each of them has alone.
 func TestPromise1CallsOfChapter4BesideEachOther(t *testing.T) {
 	a := goodWearArgs()
-	var want [][]any
+	var list []call
 	for _, c := range wearCalls() {
-		want = append(want, c.run(a))
+		list = append(list, call{c.name, func() []any { return c.run(a) }})
+	}
+	checkBeside(t, list)
+}
+
+// checkBeside checks that calls have the same results beside each other and alone.
+func checkBeside(t *testing.T, list []call) {
+	t.Helper()
+	var want [][]any
+	for _, c := range list {
+		want = append(want, c.run())
 	}
 	var group sync.WaitGroup
 	wrong := make([]bool, 8)
 	for i := range wrong {
 		group.Go(func() {
 			for range 50 {
-				for k, c := range wearCalls() {
-					wrong[i] = wrong[i] || !reflect.DeepEqual(c.run(a), want[k])
+				for k, c := range list {
+					wrong[i] = wrong[i] || !reflect.DeepEqual(c.run(), want[k])
 				}
 			}
 		})
