@@ -131,25 +131,27 @@ func codesOf(name string) []int64 {
 		return []int64{impl.OK, impl.ErrInvalid, impl.ErrNotFound, impl.ErrProof}
 	case "ValuesOf":
 		return []int64{impl.OK, impl.ErrInvalid, impl.ErrProof}
-	case "ReadCard", "ReadScheme", "ReadDeck", "ReadMix", "ReadWear", "ReadCatalogue":
+	case "ReadCard", "ReadScheme", "ReadDeck", "ReadMix", "ReadWear", "ReadCatalogue", "ReadTree":
 		return []int64{impl.OK, impl.ErrSyntax}
-	case "PassNeedle", "SplitDeck", "QueryFor", "ChanceWear", "IsTold", "ValuesNear", "DoubtsOf", "VotesFor", "RepairCard", "PreferredOf", "PathUp", "NarrowerOf", "SynonymsOf", "ExpandEntry":
+	case "PassNeedle", "SplitDeck", "QueryFor", "ChanceWear", "IsTold", "ValuesNear", "DoubtsOf", "VotesFor", "RepairCard", "PreferredOf", "PathUp", "NarrowerOf", "SynonymsOf", "ExpandEntry", "TallyOf", "CrossOf", "SplitOf", "FollowsFrom", "HoleTally", "IdleHoles", "TogetherOf", "FalseChance", "ExpectedFalse", "PlanTree", "CheckTree":
 		return []int64{impl.OK, impl.ErrInvalid, impl.ErrRange}
 	case "WordHoles", "AddWords", "MixLot", "Drops", "DroppedOf", "FalseOf", "CountFalse", "BestPer", "NeedlesFor", "AlikeWords", "MaybeWords":
 		return []int64{impl.OK, impl.ErrInvalid, impl.ErrRange}
-	case "WordCheck", "TrueOf":
+	case "WordCheck", "TrueOf", "ShareOf":
 		return []int64{impl.OK, impl.ErrRange}
 	case "ExplainMask":
 		return []int64{impl.OK, impl.ErrInvalid, impl.ErrRange, impl.ErrNotFound, impl.ErrBudget}
 	case "PassMany":
 		return []int64{impl.OK, impl.ErrInvalid, impl.ErrRange, impl.ErrLimit}
-	case "FindCard", "FindEntry":
+	case "BestSize":
+		return []int64{impl.OK, impl.ErrRange, impl.ErrNotFound}
+	case "FindCard", "FindEntry", "MeanAsked":
 		return []int64{impl.OK, impl.ErrInvalid, impl.ErrNotFound}
 	case "MergeDecks":
 		return []int64{impl.OK, impl.ErrInvalid, impl.ErrState, impl.ErrLimit, impl.ErrProof}
 	case "FirstFrom", "BothQueries", "NearestValue":
 		return []int64{impl.OK, impl.ErrInvalid, impl.ErrState}
-	case "FewestNeedles", "SureWords", "FullestOf", "MajorityOf", "LonelyHoles", "CommonBroader":
+	case "FewestNeedles", "SureWords", "FullestOf", "MajorityOf", "LonelyHoles", "CommonBroader", "CommonValue", "BestField", "WalkTree":
 		return []int64{impl.OK, impl.ErrInvalid, impl.ErrRange, impl.ErrNotFound}
 	case "RepairField", "PutBelow", "MergeEntries":
 		return []int64{impl.OK, impl.ErrInvalid, impl.ErrRange, impl.ErrState}
@@ -173,7 +175,7 @@ func isZero(x any) bool {
 
 // Every function returns, with a code that it may have, with zero values beside an error, and twice the same.
 func TestPromise1FunctionsReturn(t *testing.T) {
-	for _, calls := range [][]call{callsOfMasks(), callsOfFields(), callsOfSchemes(), callsOfDecks(), callsOfSorting(), callsOfQueries(), callsOfMixes(), callsOfLots(), callsOfWear(), callsOfCatalogues(), callsOfFiling()} {
+	for _, calls := range [][]call{callsOfMasks(), callsOfFields(), callsOfSchemes(), callsOfDecks(), callsOfSorting(), callsOfQueries(), callsOfMixes(), callsOfLots(), callsOfWear(), callsOfCatalogues(), callsOfFiling(), callsOfTables(), callsOfHardTrees()} {
 		for _, c := range calls {
 			first, second := c.run(), c.run()
 			if !reflect.DeepEqual(first, second) {
