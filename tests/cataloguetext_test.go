@@ -113,17 +113,7 @@ func TestPromise11TextsWithOneByteWrong(t *testing.T) {
 	r := rand.New(rand.NewSource(181))
 	read := 0
 	for range 6000 {
-		text := textIn(randomCatalogue(r, 1+r.Intn(12)))
-		at := r.Intn(len(text))
-		one := string("ex019 ;\nsb"[r.Intn(10)])
-		switch r.Intn(3) {
-		case 0:
-			text = text[:at] + one + text[at:]
-		case 1:
-			text = text[:at] + one + text[at+1:]
-		default:
-			text = text[:at] + text[at+1:]
-		}
+		text := withOneByteWrong(r, textIn(randomCatalogue(r, 1+r.Intn(12))), "ex019 ;\nsb")
 		list, code := impl.ReadCatalogue(text)
 		if code == impl.OK {
 			read++

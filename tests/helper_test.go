@@ -274,4 +274,17 @@ func less(a, b []int64) bool {
 	return true
 }
 
+// withOneByteWrong returns a text of which a byte has become one of some bytes, or is gone, or to which one of these has been added.
+func withOneByteWrong(r *rand.Rand, text, bytes string) string {
+	at := r.Intn(len(text) + 1)
+	one := string(bytes[r.Intn(len(bytes))])
+	switch {
+	case at == len(text) || r.Intn(3) == 0:
+		return text[:at] + one + text[at:]
+	case r.Intn(2) == 0:
+		return text[:at] + one + text[at+1:]
+	}
+	return text[:at] + text[at+1:]
+}
+
 func label(list ...any) string { return fmt.Sprintln(list...) }

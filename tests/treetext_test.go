@@ -2,7 +2,6 @@ package tests
 
 import (
 	"math/rand"
-	"slices"
 	"strconv"
 	"strings"
 	"testing"
@@ -93,7 +92,7 @@ func isTreeText(text string) bool {
 		switch {
 		case words[0] == "leaf":
 			tree = append(tree, leafOf(numbers...))
-		case words[0] == "ask" && len(numbers)%2 == 1 && slices.Max(numbers[:1]) < 100:
+		case words[0] == "ask" && len(numbers)%2 == 1 && numbers[0] < 100:
 			for i := 2; i < len(numbers); i += 2 {
 				if numbers[i] > 1000 {
 					return false
@@ -112,17 +111,7 @@ func TestPromise14TextsWithOneByteWrong(t *testing.T) {
 	r := rand.New(rand.NewSource(221))
 	read := 0
 	for range 8000 {
-		text := treeTextIn(randomTree(r, 1+r.Intn(8)))
-		at := r.Intn(len(text))
-		one := string("01259-+ \nelt"[r.Intn(12)])
-		switch r.Intn(3) {
-		case 0:
-			text = text[:at] + one + text[at:]
-		case 1:
-			text = text[:at] + one + text[at+1:]
-		default:
-			text = text[:at] + text[at+1:]
-		}
+		text := withOneByteWrong(r, treeTextIn(randomTree(r, 1+r.Intn(8))), "01259-+ \nelt")
 		tree, code := impl.ReadTree(text)
 		if isTreeText(text) {
 			read++

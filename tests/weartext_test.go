@@ -74,19 +74,8 @@ func TestPromise8TextsThatAreNoWear(t *testing.T) {
 // Whatever is read has just this text, also if a byte of a text has become another one, is gone, or is new.
 func TestPromise8TextsWithOneByteWrong(t *testing.T) {
 	r := rand.New(rand.NewSource(131))
-	const bytes = "+-0123456789 \n"
 	for range 3000 {
-		text := textOfWear(randomWear(r))
-		at := r.Intn(len(text) + 1)
-		one := string(bytes[r.Intn(len(bytes))])
-		switch {
-		case at == len(text) || r.Intn(3) == 0:
-			text = text[:at] + one + text[at:]
-		case r.Intn(2) == 0:
-			text = text[:at] + one + text[at+1:]
-		default:
-			text = text[:at] + text[at+1:]
-		}
+		text := withOneByteWrong(r, textOfWear(randomWear(r)), "+-0123456789 \n")
 		w, code := impl.ReadWear(text)
 		switch {
 		case code == impl.OK:
