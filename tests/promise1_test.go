@@ -131,7 +131,7 @@ func codesOf(name string) []int64 {
 		return []int64{impl.OK, impl.ErrInvalid, impl.ErrNotFound, impl.ErrProof}
 	case "ValuesOf":
 		return []int64{impl.OK, impl.ErrInvalid, impl.ErrProof}
-	case "ReadCard", "ReadScheme", "ReadDeck", "ReadMix", "ReadWear", "ReadCatalogue", "ReadTree":
+	case "ReadCard", "ReadScheme", "ReadDeck", "ReadMix", "ReadWear", "ReadCatalogue", "ReadTree", "ReadEdits":
 		return []int64{impl.OK, impl.ErrSyntax}
 	case "PassNeedle", "SplitDeck", "QueryFor", "ChanceWear", "IsTold", "ValuesNear", "DoubtsOf", "VotesFor", "RepairCard", "PreferredOf", "PathUp", "NarrowerOf", "SynonymsOf", "ExpandEntry", "TallyOf", "CrossOf", "SplitOf", "FollowsFrom", "HoleTally", "IdleHoles", "TogetherOf", "FalseChance", "ExpectedFalse", "PlanTree", "CheckTree":
 		return []int64{impl.OK, impl.ErrInvalid, impl.ErrRange}
@@ -145,7 +145,7 @@ func codesOf(name string) []int64 {
 		return []int64{impl.OK, impl.ErrInvalid, impl.ErrRange, impl.ErrLimit}
 	case "BestSize":
 		return []int64{impl.OK, impl.ErrRange, impl.ErrNotFound}
-	case "FindCard", "FindEntry", "MeanAsked":
+	case "FindCard", "FindEntry", "MeanAsked", "FirstFault", "NearestCards":
 		return []int64{impl.OK, impl.ErrInvalid, impl.ErrNotFound}
 	case "MergeDecks":
 		return []int64{impl.OK, impl.ErrInvalid, impl.ErrState, impl.ErrLimit, impl.ErrProof}
@@ -157,10 +157,14 @@ func codesOf(name string) []int64 {
 		return []int64{impl.OK, impl.ErrInvalid, impl.ErrRange, impl.ErrState}
 	case "AddEntry":
 		return []int64{impl.OK, impl.ErrInvalid, impl.ErrLimit, impl.ErrState}
-	case "FileOrder":
+	case "FileOrder", "EditsBetween", "UndoEdits":
 		return []int64{impl.OK, impl.ErrInvalid, impl.ErrLimit}
 	case "GuidesFor":
 		return []int64{impl.OK, impl.ErrInvalid, impl.ErrLimit, impl.ErrRange}
+	case "ApplyEdit", "ApplyEdits", "CheckAfter":
+		return []int64{impl.OK, impl.ErrInvalid, impl.ErrLimit, impl.ErrState}
+	case "MergeThree":
+		return []int64{impl.OK, impl.ErrInvalid, impl.ErrLimit, impl.ErrProof}
 	case "DrawerOf":
 		return []int64{impl.OK, impl.ErrInvalid, impl.ErrLimit, impl.ErrRange, impl.ErrNotFound}
 	}
@@ -175,7 +179,7 @@ func isZero(x any) bool {
 
 // Every function returns, with a code that it may have, with zero values beside an error, and twice the same.
 func TestPromise1FunctionsReturn(t *testing.T) {
-	for _, calls := range [][]call{callsOfMasks(), callsOfFields(), callsOfSchemes(), callsOfDecks(), callsOfSorting(), callsOfQueries(), callsOfMixes(), callsOfLots(), callsOfWear(), callsOfCatalogues(), callsOfFiling(), callsOfTables(), callsOfHardTrees()} {
+	for _, calls := range [][]call{callsOfMasks(), callsOfFields(), callsOfSchemes(), callsOfDecks(), callsOfSorting(), callsOfQueries(), callsOfMixes(), callsOfLots(), callsOfWear(), callsOfCatalogues(), callsOfFiling(), callsOfTables(), callsOfHardTrees(), callsOfWitnesses()} {
 		for _, c := range calls {
 			first, second := c.run(), c.run()
 			if !reflect.DeepEqual(first, second) {

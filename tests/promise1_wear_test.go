@@ -163,6 +163,12 @@ func TestPromise1NothingOfChapter4GoesOn(t *testing.T) {
 			impl.LonelyHoles(masks)
 		}
 	}
+	checkNoneGoesOn(t, before)
+}
+
+// checkNoneGoesOn checks that there are soon no more goroutines than before.
+func checkNoneGoesOn(t *testing.T, before int) {
+	t.Helper()
 	for end := time.Now().Add(10 * time.Second); runtime.NumGoroutine() > before; time.Sleep(time.Millisecond) {
 		if time.Now().After(end) {
 			t.Fatalf("%d goroutines have become %d", before, runtime.NumGoroutine())
